@@ -1,0 +1,1 @@
+"""Leastterms: switch functions by fewest terms."""

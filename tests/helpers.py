@@ -1,0 +1,91 @@
+"""What several test files use: odd things, many functions, and a slow second way to each answer."""
+
+import itertools
+import random
+
+
+def deep(make, depth=20):
+    thing = make(0)
+    for _ in range(depth - 1):
+        thing = make(thing)
+    return thing
+
+
+def things():
+    """Things of all kinds, new ones each time; none is a number from 1 to 4, a function, a term or a list."""
+    return [
+        True, False, None, -1, 0, 5, 17, 10 ** 30 - 1, 1 - 10 ** 30,
+        1.0, 2.5, float("nan"), float("inf"), 1j, b"1", b"", bytearray(b"-"),
+        "", " ", "one", "01x", "-----", "0 1", "2", "\u0660", "\u2212", "0\n",
+        (), (1,), (0, 1, 0), (0,) * 5, (0,) * 32, ("0", "1"), ([], []), (True, False), (0.0, 1.0),
+        {}, {"a": 1}, {0: 0, 1: 1}, set(), {0, 1}, frozenset({0, 1}), range(2), object(), int, len,
+        deep(lambda inner: (inner, inner)), deep(lambda inner: {"a": inner}), deep(lambda inner: (inner,)),
+        (0, deep(lambda inner: [inner])), (deep(lambda inner: {"k": inner}),) * 4,
+    ]
+
+
+def odd_lists():
+    """Lists that are no list of points, no function and no term."""
+    return [
+        [True], [0, False], [None], ["0"], [0.0], [-1], [0, 0], [1, 0, 1], [16], [[0]], [(0,)], [{}], [10 ** 30 - 1],
+        [deep(lambda inner: [inner])],
+    ]
+
+
+def bits(n, point):
+    return bin(point)[2:].zfill(n)
+
+
+def holds(term, point):
+    return all(sign in ("-", bit) for sign, bit in zip(term, bits(len(term), point)))
+
+
+TERMS = {n: sorted("".join(signs) for signs in itertools.product("01-", repeat=n)) for n in range(1, 5)}
+POINTS = {term: {p for p in range(2 ** n) if holds(term, p)} for n in TERMS for term in TERMS[n]}
+
+
+def switches(function):
+    return len(function).bit_length() - 1
+
+
+def slow_good(function):
+    noughts = {point for point, answer in enumerate(function) if answer == 0}
+    return [term for term in TERMS[switches(function)] if not POINTS[term] & noughts]
+
+
+def slow_greatest(function):
+    good = slow_good(function)
+    ones = {point for point, answer in enumerate(function) if answer == 1}
+    return [
+        term for term in good
+        if POINTS[term] & ones and not any(POINTS[term] < POINTS[other] for other in good)
+    ]
+
+
+def all_functions(n):
+    return list(itertools.product((0, 1, None), repeat=2 ** n))
+
+
+def some_functions(n, many):
+    """Functions of n, the same ones in each run, with few and with many noughts, and the plain ones."""
+    source = random.Random(1000 * n + many)
+    told = [(answer,) * 2 ** n for answer in (0, 1, None)]
+    told.append(tuple(point.bit_count() % 2 for point in range(2 ** n)))
+    for at in range(many):
+        pool = ((0, 1), (0, 1, None), (0, 1, 1, 1, None), (1, None), (0, None), (0, 0, 1))[at % 6]
+        told.append(tuple(source.choice(pool) for _ in range(2 ** n)))
+    return told
+
+
+def many_functions():
+    return all_functions(1) + all_functions(2) + some_functions(3, 600) + some_functions(4, 150)
+
+
+def refusal_of(call, *handed):
+    """The class of the refusal, None where there is none; each is made with one text."""
+    try:
+        call(*handed)
+    except ValueError as refusal:
+        assert len(refusal.args) == 1 and isinstance(refusal.args[0], str) and refusal.args[0], refusal.args
+        return type(refusal)
+    return None
