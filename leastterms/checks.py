@@ -1,4 +1,4 @@
-"""Whole numbers, and the refusal of what is none that is let somewhere."""
+"""Whole numbers, the refusal of what is none that is let somewhere, and what rises."""
 
 from leastterms.errors import NoNumber
 
@@ -15,7 +15,17 @@ def is_whole_within(thing, least, most):
     return is_whole(thing) and least <= thing <= most
 
 
+def need_whole_within(thing, least, most):
+    """Refuse what is no whole number from least to most."""
+    if not is_whole_within(thing, least, most):
+        raise NoNumber(f"only a whole number from {least} to {most} is let here")
+
+
 def need_switches(n):
     """Refuse what is no number of switches."""
-    if not is_whole_within(n, 1, MOST_SWITCHES):
-        raise NoNumber("a number of switches is a whole number from 1 to 4")
+    need_whole_within(n, 1, MOST_SWITCHES)
+
+
+def is_rising(things):
+    """Whether each of the things, of one kind that compares, is less than the next one."""
+    return all([one < other for one, other in zip(things, things[1:])])

@@ -1,6 +1,6 @@
 """Terms: a text with a sign, 0, 1 or -, for each switch."""
 
-from leastterms.checks import need_switches
+from leastterms.checks import is_rising, need_switches
 from leastterms.errors import NoTerm
 
 # In the order of texts, so that what is built sign by sign rises.
@@ -24,6 +24,14 @@ def need_term(n, thing):
     """Refuse what is no term of n, n being a number of switches."""
     if not has_term_signs(n, thing):
         raise NoTerm("a term has a sign 0, 1 or - for each switch")
+
+
+def has_rising_terms(n, thing):
+    """Whether the thing is a rising tuple of unlike terms of n."""
+    if not isinstance(thing, tuple):
+        return False
+    # Only texts are sure to compare, so they are looked at first.
+    return all([has_term_signs(n, term) for term in thing]) and is_rising(thing)
 
 
 def all_terms(n):
@@ -68,3 +76,18 @@ def meet(one, other):
 def with_sign(term, switch, sign):
     """The term with this sign at the switch."""
     return term[:switch] + sign + term[switch + 1:]
+
+
+def exchanged(sign):
+    """The other one of 0 and 1."""
+    return "1" if sign == "0" else "0"
+
+
+def signs_in(term):
+    """How many signs 0 and 1 a term has."""
+    return len(term) - term.count("-")
+
+
+def terms_holding(terms, point):
+    """Those of the terms, in their order, that hold the point."""
+    return [term for term in terms if point in points_of(term)]

@@ -55,15 +55,51 @@ def slow_good(function):
 
 def slow_greatest(function):
     good = slow_good(function)
-    ones = {point for point, answer in enumerate(function) if answer == 1}
+    wanted = ones(function)
     return [
         term for term in good
-        if POINTS[term] & ones and not any(POINTS[term] < POINTS[other] for other in good)
+        if POINTS[term] & wanted and not any(POINTS[term] < POINTS[other] for other in good)
     ]
+
+
+def ones(function):
+    return {point for point, answer in enumerate(function) if answer == 1}
+
+
+def all_held(terms):
+    return set().union(*[POINTS[term] for term in terms])
+
+
+def choices(terms):
+    """All rising tuples of the terms."""
+    terms = sorted(terms)
+    return [pick for many in range(len(terms) + 1) for pick in itertools.combinations(terms, many)]
+
+
+def slow_forms(function, terms):
+    """All forms of these good terms."""
+    wanted = ones(function)
+    return [pick for pick in choices(terms) if wanted <= all_held(pick)]
+
+
+def signs(form):
+    return sum(sign in "01" for term in form for sign in term)
+
+
+def least_of(forms):
+    """The first one of the fewest terms and signs, and how many have as few."""
+    fewest = min((len(form), signs(form)) for form in forms)
+    least = [form for form in forms if (len(form), signs(form)) == fewest]
+    return min(least), len(least)
 
 
 def all_functions(n):
     return list(itertools.product((0, 1, None), repeat=2 ** n))
+
+
+def plain_functions(n):
+    """All functions of n that are free nowhere."""
+    return list(itertools.product((0, 1), repeat=2 ** n))
 
 
 def some_functions(n, many):
@@ -75,6 +111,21 @@ def some_functions(n, many):
         pool = ((0, 1), (0, 1, None), (0, 1, 1, 1, None), (1, None), (0, None), (0, 0, 1))[at % 6]
         told.append(tuple(source.choice(pool) for _ in range(2 ** n)))
     return told
+
+
+def crowded_functions():
+    """Functions of four switches with many greatest terms, with no needed ones, or odd in other ways."""
+    texts = (
+        "1001011101111110", "0111101111100111", "1111101111011111", "1011110111101111", "1110101100111110",
+        "-110101001111110", "11111-1111-1111-", "11111011-100111-", "111-00011-100011", "-1--01111-10111-",
+        # Alike points are left by sweeps, and more terms have as few signs as the fewest terms.
+        "1011110110111101", "1----1-1-10--10-", "1----01-----0---", "-0-11--0---1-1--",
+    )
+    return [read(text) for text in texts]
+
+
+def read(text):
+    return tuple({"0": 0, "1": 1, "-": None}[sign] for sign in text)
 
 
 def many_functions():

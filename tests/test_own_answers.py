@@ -3,12 +3,20 @@
 import copy
 import unittest
 
-from helpers import TERMS, many_functions, odd_lists, refusal_of, slow_good, switches
-from leastterms.functions import frees_of, function_of, noughts_of, ones_of
+from helpers import TERMS, crowded_functions, many_functions, odd_lists, refusal_of, slow_good, switches, things
+from leastterms.forms import is_form, least_form, least_many
+from leastterms.functions import frees_of, function_of, is_function, noughts_of, ones_of
 from leastterms.greatest import good_terms, greatest, levels, widened
-from leastterms.terms import points_of
+from leastterms.needs import needed, sole_points, swept
+from leastterms.papers import paper_for, paper_shows
+from leastterms.products import (function_of_product, function_of_sum, is_product, least_product, multiplied, opposite,
+                                 shorter_side)
+from leastterms.terms import is_term, points_of
 
-OF_A_FUNCTION = (ones_of, noughts_of, frees_of, good_terms, greatest, levels)
+OF_A_FUNCTION = (ones_of, noughts_of, frees_of, good_terms, greatest, levels, sole_points, needed)
+TUPLES_OF_A_FUNCTION = (swept, least_form, opposite, least_product, shorter_side, lambda function: (
+    least_many(function), paper_for(function, 0), paper_for(function, 1), paper_for(function, 3)))
+OF_TERMS = (function_of_sum, function_of_product, multiplied)
 
 
 def lists_in(told):
@@ -24,6 +32,20 @@ def spoil(told):
         inner.append("spoiled")
         inner.reverse()
     told.clear()
+
+
+def is_of_tuples_alone(told):
+    if isinstance(told, tuple):
+        return all(is_of_tuples_alone(inner) for inner in told)
+    return told is None or isinstance(told, (int, str))
+
+
+def lists_and_more():
+    """Things in which something could be changed."""
+    return [thing for thing in things() if isinstance(thing, (list, dict, tuple))] + odd_lists() + [
+        ["-1", "1-"], ("-1", ["1-"]), ["apart", [1, 2]], ("apart", [2, 1]), ("cases", 1, [["apart", [2]]]),
+        ("cases", 1, (["apart", (2,)],)), {"apart": [2, 1]}, ["1", "0"], [0, 1, 1, 0],
+    ]
 
 
 class OwnAnswers(unittest.TestCase):
@@ -66,7 +88,37 @@ class OwnAnswers(unittest.TestCase):
             for ask in OF_A_FUNCTION:
                 self.assertIsNotNone(refusal_of(ask, wrong))
             self.assertIsNotNone(refusal_of(widened, (1, 1), wrong))
+            self.assertIsNotNone(refusal_of(paper_for, (1, 1), wrong))
+            for ask in OF_TERMS:
+                self.assertIsNotNone(refusal_of(ask, 2, wrong))
+                self.assertIsNotNone(refusal_of(ask, wrong, wrong))
             self.assertEqual(wrong, kept)
+
+    def test_what_is_asked_of_anything_stays_as_it_was(self):
+        for thing in lists_and_more():
+            kept = copy.deepcopy(thing)
+            for function in ((0, 1, 1, 0), (0, 0), (1, 1, 1, 1)):
+                is_form(function, thing)
+                is_product(function, thing)
+                paper_shows(function, 1, thing)
+            is_function(thing)
+            is_term(2, thing)
+            self.assertEqual(repr(thing), repr(kept))
+
+    def test_a_told_list_of_multiplied_clauses_can_be_changed(self):
+        for clauses in ((), ("00",), ("-0", "0-"), ("--",), tuple(TERMS[2])):
+            told = multiplied(2, clauses)
+            kept = list(told)
+            self.assertIsNot(multiplied(2, clauses), told)
+            spoil(told)
+            self.assertEqual(multiplied(2, clauses), kept)
+
+    def test_what_is_told_as_a_tuple_has_no_list_in_it(self):
+        for function in many_functions() + crowded_functions():
+            for ask in TUPLES_OF_A_FUNCTION:
+                told = ask(function)
+                self.assertTrue(is_of_tuples_alone(told), told)
+                self.assertEqual(ask(function), told)
 
     def test_the_same_question_has_the_same_answer(self):
         for function in many_functions():

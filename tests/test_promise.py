@@ -1,0 +1,85 @@
+"""Point 4: what the modules tell, held against one another."""
+
+import unittest
+
+from helpers import (POINTS, all_functions, choices, crowded_functions, least_of, many_functions, ones, signs,
+                     slow_forms, slow_good, slow_greatest, some_functions, switches)
+from leastterms.forms import is_form, least_form, least_many, signs_of
+from leastterms.greatest import greatest
+from leastterms.needs import needed, swept
+from leastterms.papers import paper_for, paper_shows
+from leastterms.products import function_of_product, function_of_sum, is_product, least_product, opposite
+
+
+def length(form):
+    return (len(form), signs_of(form))
+
+
+def slow_covers(points, terms):
+    return [pick for pick in choices(terms) if set(points) <= set().union(*[POINTS[term] for term in pick])]
+
+
+def greedy_forms(function):
+    """Forms that somebody could make: by points from below and from above, of narrow and of wide terms."""
+    good = slow_good(function)
+    for points in (sorted(ones(function)), sorted(ones(function), reverse=True)):
+        for terms in (good, good[::-1], sorted(good, key=lambda term: (term.count("-"), term))):
+            form = set()
+            for point in points:
+                if not any(point in POINTS[term] for term in form):
+                    form.add([term for term in terms if point in POINTS[term]][0])
+            yield tuple(sorted(form))
+
+
+class Promise(unittest.TestCase):
+    def test_needed_terms_are_in_each_form_of_greatest_terms(self):
+        for function in all_functions(2) + some_functions(3, 200) + some_functions(4, 40) + crowded_functions():
+            forms = slow_forms(function, slow_greatest(function))
+            in_all = set(slow_greatest(function)).intersection(*map(set, forms))
+            self.assertEqual(set(needed(function)), in_all, function)
+
+    def test_sweeps_leave_what_is_least(self):
+        for function in many_functions() + all_functions(3)[::7] + crowded_functions():
+            taken, points, terms = swept(function)
+            rest = least_of(slow_covers(points, terms))[0]
+            self.assertEqual(set(taken) & set(rest), set())
+            whole = tuple(sorted(taken + rest))
+            self.assertIs(is_form(function, whole), True, function)
+            self.assertEqual(length(whole), length(least_form(function)), function)
+
+    def test_no_form_is_shorter_than_the_least_one(self):
+        for function in many_functions() + crowded_functions():
+            least = least_form(function)
+            self.assertIs(is_form(function, least), True)
+            self.assertTrue(set(least) <= set(greatest(function)))
+            self.assertTrue(set(needed(function)) <= set(least))
+            self.assertGreaterEqual(least_many(function), 1)
+            for form in greedy_forms(function):
+                self.assertIs(is_form(function, form), True, (function, form))
+                self.assertLessEqual((len(least), signs(least)), (len(form), signs(form)), (function, form))
+
+    def test_a_paper_just_where_no_form_is_so_short(self):
+        for function in many_functions() + crowded_functions():
+            fewest = len(least_form(function))
+            self.assertIsNone(paper_for(function, fewest))
+            if fewest > 0:
+                self.assertIs(paper_shows(function, fewest - 1, paper_for(function, fewest - 1)), True)
+                self.assertIs(paper_shows(function, fewest, paper_for(function, fewest - 1)), False)
+
+    def test_products_go_by_the_opposite_function(self):
+        for function in many_functions() + crowded_functions():
+            other = opposite(function)
+            self.assertEqual(least_product(function), least_form(other))
+            self.assertEqual(least_product(other), least_form(function))
+            for handed in list(greedy_forms(other)) + [least_form(function), tuple(greatest(function))]:
+                self.assertIs(is_product(function, handed), is_form(other, handed), (function, handed))
+
+    def test_the_function_of_a_form_and_of_a_product(self):
+        for function in many_functions() + crowded_functions():
+            n = switches(function)
+            for made in (function_of_sum(n, least_form(function)), function_of_product(n, least_product(function))):
+                self.assertTrue(all(told in (None, answer) for told, answer in zip(function, made)), function)
+
+
+if __name__ == "__main__":
+    unittest.main()
