@@ -53,11 +53,15 @@ def least_covers(held, wanted):
     return sorted([tuple(sorted(cover)) for cover in found if signs_of(cover) == fewest])
 
 
+def held_points(function):
+    """For each greatest term, in order, the points that it holds."""
+    return {term: points_of(term) for term in greatest(function)}
+
+
 def least_forms(function):
     """The rising list of all forms of the fewest terms, of these the fewest signs."""
     # A term that is not greatest is out or wider in a shorter form, so greatest ones are enough.
-    held = {term: points_of(term) for term in greatest(function)}
-    return least_covers(held, points_with(function, 1))
+    return least_covers(held_points(function), points_with(function, 1))
 
 
 def least_form(function):

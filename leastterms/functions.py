@@ -87,3 +87,11 @@ def frees_of(function):
     """The rising list of the free points."""
     need_function(function)
     return points_with(function, None)
+
+
+def plain_functions(n):
+    """The rising list of all functions of n that are free nowhere."""
+    functions = [()]
+    for point in range(POINTS_BY_SWITCHES[n]):
+        functions = [function + (answer,) for function in functions for answer in (0, 1)]
+    return functions

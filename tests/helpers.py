@@ -140,3 +140,102 @@ def refusal_of(call, *handed):
         assert len(refusal.args) == 1 and isinstance(refusal.args[0], str) and refusal.args[0], refusal.args
         return type(refusal)
     return None
+
+
+def is_number(thing):
+    return type(thing) is int
+
+
+def is_pair(thing):
+    return type(thing) is tuple and len(thing) == 2 and all(map(is_number, thing))
+
+
+def other_things(part):
+    """Things near to a part of a paper, and far from it."""
+    told = [None, True, False, -1, 3, 16, "apart", "cases", "", (), [], {}, (part,), [part], ("apart", ()), 1.0]
+    if type(part) is tuple:
+        told += [list(part), part + part, part[::-1], part[1:], part[:-1], part + (0,), part + (7,), part + (None,)]
+        for is_thing, pool in ((is_number, range(16)), (is_pair, list(itertools.product(range(3), range(8))))):
+            if all(map(is_thing, part)):
+                told += [tuple(sorted(part[:at] + (other,) + part[at + 1:])) for at in range(len(part))
+                         for other in pool]
+    if is_number(part):
+        told += [part + 1, part - 1, str(part), float(part), bool(part)]
+    return told
+
+
+def near_papers(paper):
+    """The paper with one part of it, at any depth, another thing."""
+    yield from other_things(paper)
+    if type(paper) is tuple:
+        for at, part in enumerate(paper):
+            for other in near_papers(part):
+                yield paper[:at] + (other,) + paper[at + 1:]
+
+
+def depth_of_cases(paper):
+    return 0 if paper[0] == "apart" else 1 + max(depth_of_cases(inner) for inner in paper[2])
+
+
+def good_numbers(functions, term):
+    """The numbers of the functions for which the term is good."""
+    return {number for number, function in enumerate(functions)
+            if all(function[point] != 0 for point in POINTS[term])}
+
+
+def slow_broad(functions):
+    terms = TERMS[switches(functions[0])]
+    numbers = {term: good_numbers(functions, term) for term in terms}
+    return [
+        term for term in terms
+        if numbers[term] and not any(POINTS[term] < POINTS[other] and numbers[term] <= numbers[other]
+                                     for other in terms)
+    ]
+
+
+def slow_is_shared(functions, pick):
+    """Whether a rising tuple of terms of the functions' n is a shared form."""
+    numbers = [good_numbers(functions, term) for term in pick]
+    if set() in numbers:
+        return False
+    for number, function in enumerate(functions):
+        if not ones(function) <= all_held([term for term, told in zip(pick, numbers) if number in told]):
+            return False
+    return True
+
+
+def slow_least_length(functions, terms):
+    """The fewest terms of a shared form of these terms, and of those forms the fewest signs."""
+    for many in range(len(terms) + 1):
+        told = [signs(pick) for pick in itertools.combinations(terms, many) if slow_is_shared(functions, pick)]
+        if told:
+            return many, min(told)
+
+
+def some_groups(n, many):
+    """Functions together, the same ones in each run: unlike ones, alike ones, opposite ones, free ones."""
+    source = random.Random(77 * n + many)
+    pool = some_functions(n, many)
+    told = [(one, other) for one in pool[:4] for other in pool[:4]]
+    told += [(one, one) for one in pool[::3]] + [(one, one, one) for one in pool[::5]]
+    for one in pool[::2]:
+        other = tuple(None if answer is None else 1 - answer for answer in one)
+        told += [(one, other), (other, one, source.choice(pool)), (one, source.choice(pool), one)]
+    for size in (2, 3):
+        told += [tuple(source.choice(pool) for _ in range(size)) for _ in range(many)]
+    return told
+
+
+def no_groups():
+    """Things that are no functions together."""
+    one, two, three, four = (0, 1), (0, 1, 1, 0), read("01101001"), (0, 1) * 8
+    told = [one, two, three, four, (one,), (two,), (one,) * 4, (two,) * 4, (one,) * 5, (), ((), ()), ((one, one),)]
+    told += [(one, two), (two, one), (two, two, one), (one, two, two), (two, one, two), (three, two), (three, four)]
+    told += [(four, four), (four, four, four), (three, three, four), (four, three, three)]
+    told += [[one, one], [two, two, two], (one, [0, 1]), ([0, 1], one), (one, one, [0, 1]), {one: one}, {0: one, 1: one}]
+    told += [(one, "01"), ("01", "01"), "01", "0101", (one, None), (None, one), (one, one, None), (two, (0, 1, 1))]
+    told += [(one, (0, True)), ((False, 1), one), (two, (0, 1, 2, 0)), (one, (0.0, 1)), (two, two, (0, 1, 1, "0"))]
+    told += [(0, 1), (0, 1, 0), (None, None), (True, True), None, "", {}, {one}, frozenset([one, two])]
+    for thing in things() + odd_lists():
+        told += [thing, (thing, thing), (one, thing), (thing, one, one), (two, two, thing)]
+    return told

@@ -3,7 +3,10 @@
 import copy
 import unittest
 
-from helpers import TERMS, crowded_functions, many_functions, odd_lists, refusal_of, slow_good, switches, things
+from helpers import (TERMS, crowded_functions, many_functions, odd_lists, refusal_of, slow_good, some_groups, switches,
+                     things)
+from leastterms.changes import back, behind, changed, changed_term, is_change
+from leastterms.counts import by_greatest, by_least, most_greatest, most_least, odd_function
 from leastterms.forms import is_form, least_form, least_many
 from leastterms.functions import frees_of, function_of, is_function, noughts_of, ones_of
 from leastterms.greatest import good_terms, greatest, levels, widened
@@ -11,12 +14,19 @@ from leastterms.needs import needed, sole_points, swept
 from leastterms.papers import paper_for, paper_shows
 from leastterms.products import (function_of_product, function_of_sum, is_product, least_product, multiplied, opposite,
                                  shorter_side)
+from leastterms.shared import broad_terms, is_shared, least_shared
+from leastterms.sharedpapers import shared_paper, shared_shows
 from leastterms.terms import is_term, points_of
 
 OF_A_FUNCTION = (ones_of, noughts_of, frees_of, good_terms, greatest, levels, sole_points, needed)
 TUPLES_OF_A_FUNCTION = (swept, least_form, opposite, least_product, shorter_side, lambda function: (
     least_many(function), paper_for(function, 0), paper_for(function, 1), paper_for(function, 3)))
 OF_TERMS = (function_of_sum, function_of_product, multiplied)
+TUPLES_OF_FUNCTIONS = (least_shared, lambda functions: (
+    shared_paper(functions, 0), shared_paper(functions, 1), shared_paper(functions, 3)))
+LISTS_OF_A_NUMBER = (by_greatest, by_least)
+TUPLES_OF_A_NUMBER = (most_greatest, most_least, odd_function)
+CHANGES = (((1, 0), (0, 1), 1), ((0, 1), (1, 1), 0), ((1, 0), (0, 0), 0))
 
 
 def lists_in(told):
@@ -45,6 +55,9 @@ def lists_and_more():
     return [thing for thing in things() if isinstance(thing, (list, dict, tuple))] + odd_lists() + [
         ["-1", "1-"], ("-1", ["1-"]), ["apart", [1, 2]], ("apart", [2, 1]), ("cases", 1, [["apart", [2]]]),
         ("cases", 1, (["apart", (2,)],)), {"apart": [2, 1]}, ["1", "0"], [0, 1, 1, 0],
+        ("apart", [(0, 2), (0, 1)]), ("apart", ([0, 1], [0, 2])), ("cases", [0, 1], [["apart", [[0, 2]]]]),
+        ("cases", (0, 1), [("apart", ((0, 2),))]), [(1, 0), (0, 0), 1], ([1, 0], (0, 0), 1), ((1, 0), [0, 0], 1),
+        ((1, 0), (0, 0), [1]), [[0, 1], [1, 0]], ([0, 1], [1, 0]),
     ]
 
 
@@ -92,6 +105,14 @@ class OwnAnswers(unittest.TestCase):
             for ask in OF_TERMS:
                 self.assertIsNotNone(refusal_of(ask, 2, wrong))
                 self.assertIsNotNone(refusal_of(ask, wrong, wrong))
+            for ask in TUPLES_OF_FUNCTIONS + (broad_terms,) + LISTS_OF_A_NUMBER + TUPLES_OF_A_NUMBER:
+                self.assertIsNotNone(refusal_of(ask, wrong))
+            self.assertIsNotNone(refusal_of(broad_terms, ((0, 1), wrong)))
+            self.assertIsNotNone(refusal_of(shared_paper, ((0, 1), (1, 1)), wrong))
+            self.assertIsNotNone(refusal_of(changed, (0, 1), (wrong, (0,), 0)))
+            self.assertIsNotNone(refusal_of(changed_term, 2, "01", (wrong, wrong, wrong)))
+            self.assertIsNotNone(refusal_of(behind, 2, CHANGES[0], wrong))
+            self.assertIsNotNone(refusal_of(back, 2, wrong))
             self.assertEqual(wrong, kept)
 
     def test_what_is_asked_of_anything_stays_as_it_was(self):
@@ -101,8 +122,11 @@ class OwnAnswers(unittest.TestCase):
                 is_form(function, thing)
                 is_product(function, thing)
                 paper_shows(function, 1, thing)
+                is_shared((function, function), thing)
+                shared_shows((function, function), 1, thing)
             is_function(thing)
             is_term(2, thing)
+            is_change(2, thing)
             self.assertEqual(repr(thing), repr(kept))
 
     def test_a_told_list_of_multiplied_clauses_can_be_changed(self):
@@ -119,6 +143,38 @@ class OwnAnswers(unittest.TestCase):
                 told = ask(function)
                 self.assertTrue(is_of_tuples_alone(told), told)
                 self.assertEqual(ask(function), told)
+
+    def test_told_broad_terms_can_be_changed(self):
+        for functions in some_groups(1, 20) + some_groups(2, 40) + some_groups(3, 40):
+            told = broad_terms(functions)
+            kept = list(told)
+            self.assertIsNot(broad_terms(functions), told)
+            spoil(told)
+            self.assertEqual(broad_terms(functions), kept)
+
+    def test_what_is_told_of_functions_together_has_no_list_in_it(self):
+        for functions in some_groups(1, 20) + some_groups(2, 40) + some_groups(3, 40):
+            for ask in TUPLES_OF_FUNCTIONS:
+                told = ask(functions)
+                self.assertTrue(is_of_tuples_alone(told), told)
+                self.assertEqual(ask(functions), told)
+
+    def test_what_is_told_of_a_number(self):
+        for n in (1, 2, 3):
+            for ask in LISTS_OF_A_NUMBER:
+                told = ask(n)
+                kept = list(told)
+                spoil(told)
+                self.assertEqual(ask(n), kept)
+            for ask in TUPLES_OF_A_NUMBER:
+                self.assertTrue(is_of_tuples_alone(ask(n)))
+                self.assertEqual(ask(n), ask(n))
+
+    def test_what_is_told_of_changes_has_no_list_in_it(self):
+        for one in CHANGES:
+            for told in (changed((0, 1, None, 1), one), back(2, one), behind(2, one, CHANGES[0])):
+                self.assertIsInstance(told, tuple)
+                self.assertTrue(is_of_tuples_alone(told), told)
 
     def test_the_same_question_has_the_same_answer(self):
         for function in many_functions():

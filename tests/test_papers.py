@@ -1,16 +1,13 @@
 import itertools
 import unittest
 
-from helpers import (POINTS, all_functions, crowded_functions, least_of, odd_lists, ones, plain_functions, read,
-                     refusal_of, slow_forms, slow_good, slow_greatest, some_functions, things)
+from helpers import (POINTS, all_functions, crowded_functions, depth_of_cases, is_number, least_of, near_papers,
+                     odd_lists, ones, plain_functions, read, refusal_of, slow_forms, slow_good, slow_greatest,
+                     some_functions, things)
 from leastterms.errors import NoFunction, NoNumber
 from leastterms.papers import paper_for, paper_shows
 
 NO_MANY = [True, False, None, -1, 17, 10 ** 29, -10 ** 29, 1.0, 0.0, "1", "", (), (1,), [], [1], {}, {1: 1}, b"1"]
-
-
-def is_number(thing):
-    return type(thing) is int
 
 
 def slow_shows(function, many, paper, taken=()):
@@ -33,31 +30,6 @@ def slow_shows(function, many, paper, taken=()):
         return len(papers) == len(holding) and all(
             slow_shows(function, many, inner, taken + (term,)) for term, inner in zip(holding, papers))
     return False
-
-
-def other_things(part):
-    """Things near to a part of a paper, and far from it."""
-    told = [None, True, False, -1, 3, 16, "apart", "cases", "", (), [], {}, (part,), [part], ("apart", ()), 1.0]
-    if type(part) is tuple:
-        told += [list(part), part + part, part[::-1], part[1:], part[:-1], part + (0,), part + (7,), part + (None,)]
-        told += [tuple(sorted(part[:at] + (other,) + part[at + 1:])) for at in range(len(part)) for other in range(16)
-                 if all(map(is_number, part))]
-    if is_number(part):
-        told += [part + 1, part - 1, str(part), float(part), bool(part)]
-    return told
-
-
-def near_papers(paper):
-    """The paper with one part of it, at any depth, another thing."""
-    yield from other_things(paper)
-    if type(paper) is tuple:
-        for at, part in enumerate(paper):
-            for other in near_papers(part):
-                yield paper[:at] + (other,) + paper[at + 1:]
-
-
-def depth_of_cases(paper):
-    return 0 if paper[0] == "apart" else 1 + max(depth_of_cases(inner) for inner in paper[2])
 
 
 class Refusals(unittest.TestCase):

@@ -3,12 +3,16 @@
 import unittest
 
 from helpers import (POINTS, all_functions, choices, crowded_functions, least_of, many_functions, ones, signs,
-                     slow_forms, slow_good, slow_greatest, some_functions, switches)
+                     slow_forms, slow_good, slow_greatest, some_functions, some_groups, switches)
+from leastterms.changes import changed, changed_term
+from leastterms.counts import by_greatest, by_least, most_greatest, most_least
 from leastterms.forms import is_form, least_form, least_many, signs_of
 from leastterms.greatest import greatest
 from leastterms.needs import needed, swept
 from leastterms.papers import paper_for, paper_shows
 from leastterms.products import function_of_product, function_of_sum, is_product, least_product, opposite
+from leastterms.shared import broad_terms, is_shared, least_shared
+from leastterms.sharedpapers import shared_paper, shared_shows
 
 
 def length(form):
@@ -79,6 +83,37 @@ class Promise(unittest.TestCase):
             n = switches(function)
             for made in (function_of_sum(n, least_form(function)), function_of_product(n, least_product(function))):
                 self.assertTrue(all(told in (None, answer) for told, answer in zip(function, made)), function)
+
+    def test_functions_together_want_no_more_than_each_by_itself(self):
+        for functions in some_groups(1, 30) + some_groups(2, 100) + some_groups(3, 150):
+            apart = tuple(sorted(set().union(*[least_form(function) for function in functions])))
+            together = least_shared(functions)
+            self.assertIs(is_shared(functions, apart), True, functions)
+            self.assertIs(is_shared(functions, together), True, functions)
+            self.assertIs(is_shared(functions, tuple(broad_terms(functions))), True, functions)
+            self.assertLessEqual(length(together), length(apart), functions)
+            self.assertIsNone(shared_paper(functions, len(together)))
+            if together:
+                paper = shared_paper(functions, len(together) - 1)
+                self.assertIs(shared_shows(functions, len(together) - 1, paper), True, functions)
+                self.assertIs(shared_shows(functions, len(together), paper), False, functions)
+
+    def test_what_is_alike_wants_as_many(self):
+        changes = [((0, 1, 2), (0, 1, 1), 0), ((2, 0, 1), (0, 0, 0), 0), ((1, 0, 2), (1, 0, 1), 0)]
+        for function in some_functions(3, 200):
+            for change in changes:
+                other = changed(function, change)
+                self.assertEqual(length(least_form(other)), length(least_form(function)), (function, change))
+                self.assertEqual(least_many(other), least_many(function), (function, change))
+                moved = tuple(sorted(changed_term(3, term, change) for term in least_form(function)))
+                self.assertIs(is_form(other, moved), True)
+                turned_over = changed(function, change[:2] + (1,))
+                self.assertEqual(length(least_product(turned_over)), length(least_form(function)), (function, change))
+
+    def test_the_most_are_at_the_last_places(self):
+        for n in (1, 2, 3):
+            self.assertEqual(len(greatest(most_greatest(n))), len(by_greatest(n)) - 1)
+            self.assertEqual(len(least_form(most_least(n))), len(by_least(n)) - 1)
 
 
 if __name__ == "__main__":
