@@ -239,3 +239,69 @@ def no_groups():
     for thing in things() + odd_lists():
         told += [thing, (thing, thing), (one, thing), (thing, one, one), (two, two, thing)]
     return told
+
+
+def all_changes(n):
+    return list(itertools.product(itertools.permutations(range(n)), itertools.product((0, 1), repeat=n), (0, 1)))
+
+
+def still(n):
+    """The change that changes nothing."""
+    return (tuple(range(n)), (0,) * n, 0)
+
+
+def slow_changed(function, change):
+    """By the words of point 71: for each point the one whose bits are told is looked for."""
+    n = switches(function)
+    order, turns, answer = change
+    told = []
+    for point in range(2 ** n):
+        olds = [old for old in range(2 ** n)
+                if all(int(bits(n, old)[order[k]]) == (int(bits(n, point)[k]) + turns[k]) % 2 for k in range(n))]
+        assert len(olds) == 1
+        told.append({(0, 1): 1, (1, 1): 0}.get((function[olds[0]], answer), function[olds[0]]))
+    return tuple(told)
+
+
+def no_changes(n):
+    """Things that are no change of n, near ones and far ones."""
+    order, turns, answer = tuple(range(n)), (0,) * n, 0
+    told = [(), (order,), (order, turns), (order, turns, answer, 0), (turns, order, answer), (answer, order, turns)]
+    told += [[order, turns, answer], (list(order), turns, answer), (order, list(turns), answer), (order, turns, [0])]
+    told += [(order, turns, other) for other in (True, False, None, 2, -1, 0.0, 1.0, "0", "", (), (0,), {}, 10 ** 29)]
+    told += [(other, turns, answer) for other in (None, 0, True, "", "0123"[:n], (), dict.fromkeys(order), set(order))]
+    told += [(order, other, answer) for other in (None, 0, False, "", "0000"[:n], (), dict.fromkeys(order))]
+    told += [(order + (n,), turns, answer), (order[1:], turns, answer), (order[:-1], turns, answer)]
+    told += [(order + order, turns, answer), (order, turns + (0,), answer), (order, turns[1:], answer)]
+    told += [(order, turns + turns, answer), (order + (0,), turns + (0,), answer), (order[1:], turns[1:], answer)]
+    for at in range(n):
+        for other in (True, False, None, -1, n, n + 1, 10 ** 29, float(at), str(at), (at,), [at], "", {}):
+            told.append((order[:at] + (other,) + order[at + 1:], turns, answer))
+        told += [(order[:at] + (other,) + order[at + 1:], turns, answer) for other in order if other != at]
+        for other in (True, False, None, -1, 2, 10 ** 29, 0.0, 1.0, "0", "1", (), (0,), [0], {}):
+            told.append((order, turns[:at] + (other,) + turns[at + 1:], answer))
+    for other in {1, 2, 3, 4} - {n}:
+        told += [still(other), (still(other)[0], turns, answer), (order, still(other)[1], answer)]
+    for thing in things() + odd_lists():
+        told += [thing, (thing,), (thing, turns, answer), (order, thing, answer), (order, turns, thing)]
+        told += [(thing, thing, thing), (thing, turns, answer, 0)]
+    # Some of these are changes of some n; a truth is like a number, but not written like one.
+    changes = all_changes(n)
+    written = set(map(repr, changes))
+    return [thing for thing in told if thing not in changes or repr(thing) not in written]
+
+
+def slow_steps(function):
+    n = switches(function)
+    return [
+        (one, other) for one, other in itertools.combinations(sorted(ones(function)), 2)
+        if sum(left != right for left, right in zip(bits(n, one), bits(n, other))) == 1
+    ]
+
+
+def slow_gaps(function, form):
+    return [step for step in slow_steps(function) if not any(set(step) <= POINTS[term] for term in form)]
+
+
+def text_of(function):
+    return "".join("-" if answer is None else str(answer) for answer in function)

@@ -35,6 +35,8 @@ BARRED_NODES = (
     ast.AsyncWith, ast.Await, ast.GeneratorExp, ast.NamedExpr, ast.Div, ast.Import,
 )
 LOOPS = (ast.For, ast.While)
+ITERATED = {"zip", "enumerate", "reversed", "range", "items", "keys", "values"}
+TAKERS = {"list", "tuple", "dict", "sorted", "sum", "any", "all", "enumerate", "zip", "min", "max"}
 
 
 def nodes(path):
@@ -51,6 +53,18 @@ def bound_names(path):
             yield node.id
         elif isinstance(node, ast.alias):
             yield node.asname or node.name
+
+
+def with_parents(path):
+    """Each node with the one in which it stands."""
+    return [(child, node) for node in nodes(path) for child in ast.iter_child_nodes(node)]
+
+
+def called_name(node):
+    """The name of what is called, None where nothing is."""
+    if not isinstance(node, ast.Call):
+        return None
+    return node.func.id if isinstance(node.func, ast.Name) else getattr(node.func, "attr", None)
 
 
 def own_imports(path):
@@ -152,6 +166,76 @@ class Form(unittest.TestCase):
             for node in nodes(path):
                 if isinstance(node, ast.Call) and isinstance(node.func, ast.Attribute):
                     self.assertIn(node.func.attr, METHODS | own, (path, node.lineno))
+
+    def test_local_names_are_no_imports_and_no_classes(self):
+        for path in FILES:
+            body = ast.parse(path.read_text()).body
+            taken = {node.name for node in body if isinstance(node, ast.ClassDef)}
+            taken |= {name.name for node in body if isinstance(node, ast.ImportFrom) for name in node.names}
+            for node in nodes(path):
+                if isinstance(node, ast.arg):
+                    self.assertNotIn(node.arg, taken, (path, node.lineno))
+                if isinstance(node, ast.Name) and isinstance(node.ctx, ast.Store):
+                    self.assertNotIn(node.id, taken, (path, node.lineno))
+
+    def test_each_import_is_used_and_names_its_file(self):
+        defined = {}
+        for path in FILES:
+            for node in ast.parse(path.read_text()).body:
+                names = [node.name] if isinstance(node, (ast.FunctionDef, ast.ClassDef)) else []
+                names += [target.id for target in node.targets] if isinstance(node, ast.Assign) else []
+                self.assertFalse(set(names) & defined.setdefault(path.stem, set()), (path, names))
+                defined[path.stem] |= set(names)
+        for path in FILES:
+            read = {node.id for node in nodes(path) if isinstance(node, ast.Name)}
+            for node in nodes(path):
+                if isinstance(node, ast.ImportFrom):
+                    for name in node.names:
+                        self.assertIsNone(name.asname, path)
+                        self.assertIn(name.name, defined[node.module.split(".")[1]], path)
+                        self.assertIn(name.name, read, path)
+
+    def test_values_at_module_level(self):
+        plain = (ast.Constant, ast.Tuple, ast.List, ast.Dict, ast.Name, ast.Load)
+        for path in FILES:
+            for node in ast.parse(path.read_text()).body:
+                if isinstance(node, ast.Assign):
+                    for inner in ast.walk(node.value):
+                        self.assertIsInstance(inner, plain, (path, node.lineno))
+
+    def test_iterated_at_once(self):
+        for path in FILES:
+            for node, parent in with_parents(path):
+                if called_name(node) in ITERATED:
+                    looped = isinstance(parent, (ast.For, ast.comprehension)) and parent.iter is node
+                    taken = called_name(parent) in TAKERS and node in parent.args
+                    self.assertTrue(looped or taken, (path, node.lineno))
+
+    def test_sets(self):
+        for path in FILES:
+            for node, parent in with_parents(path):
+                if isinstance(node, (ast.Set, ast.SetComp)) or called_name(node) in ("set", "frozenset"):
+                    there = called_name(parent) in ("sorted", "len") or isinstance(parent, ast.Compare)
+                    self.assertTrue(there, (path, node.lineno))
+
+    def test_refusals_are_made_on_the_spot_with_a_text(self):
+        for path in FILES:
+            for node in nodes(path):
+                if isinstance(node, ast.Raise):
+                    self.assertRegex(called_name(node.exc) or "", r"^No[A-Z][a-z]+$", (path, node.lineno))
+                    self.assertEqual(len(node.exc.args), 1, (path, node.lineno))
+                    self.assertIsInstance(node.exc.args[0], (ast.Constant, ast.JoinedStr), (path, node.lineno))
+
+    def test_no_name_is_a_method_and_an_attribute(self):
+        every = [node for path in FILES for node in nodes(path)]
+        classes = [node for node in every if isinstance(node, ast.ClassDef)]
+        methods = {inner.name for node in classes for inner in node.body if isinstance(inner, ast.FunctionDef)}
+        attributes = [node for node in every if isinstance(node, ast.Attribute)]
+        assigned = {node.attr for node in attributes if isinstance(node.ctx, ast.Store)}
+        self.assertEqual(methods & assigned, set())
+        self.assertEqual(assigned & METHODS, set())
+        for node in attributes:
+            self.assertIn(node.attr, methods | assigned | METHODS, node.lineno)
 
     def test_barred_words(self):
         for path in FILES:

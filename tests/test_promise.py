@@ -1,16 +1,20 @@
 """Point 4: what the modules tell, held against one another."""
 
+import itertools
 import unittest
 
-from helpers import (POINTS, all_functions, choices, crowded_functions, least_of, many_functions, ones, signs,
-                     slow_forms, slow_good, slow_greatest, some_functions, some_groups, switches)
+from helpers import (POINTS, all_functions, choices, crowded_functions, least_of, many_functions, ones, plain_functions,
+                     signs, slow_forms, slow_good, slow_greatest, some_functions, some_groups, switches)
 from leastterms.changes import changed, changed_term
 from leastterms.counts import by_greatest, by_least, most_greatest, most_least
 from leastterms.forms import is_form, least_form, least_many, signs_of
+from leastterms.gaps import gaps, is_smooth, least_smooth, mended, steps
 from leastterms.greatest import greatest
+from leastterms.kinds import change_to, kinds, least_alike
 from leastterms.needs import needed, swept
 from leastterms.papers import paper_for, paper_shows
-from leastterms.products import function_of_product, function_of_sum, is_product, least_product, opposite
+from leastterms.products import (function_of_product, function_of_sum, is_product, least_product, opposite,
+                                 shorter_side)
 from leastterms.shared import broad_terms, is_shared, least_shared
 from leastterms.sharedpapers import shared_paper, shared_shows
 
@@ -114,6 +118,33 @@ class Promise(unittest.TestCase):
         for n in (1, 2, 3):
             self.assertEqual(len(greatest(most_greatest(n))), len(by_greatest(n)) - 1)
             self.assertEqual(len(least_form(most_least(n))), len(by_least(n)) - 1)
+
+    def test_alike_functions_have_sides_as_short(self):
+        for function in plain_functions(1) + plain_functions(2) + some_functions(3, 60) + some_functions(4, 8):
+            least = least_alike(function)
+            change = change_to(function, least)
+            self.assertEqual(changed(function, change), least)
+            self.assertEqual(length(shorter_side(least)[1]), length(shorter_side(function)[1]), function)
+            self.assertEqual(length(least_form(least) if change[2] == 0 else least_product(least)),
+                             length(least_form(function)), function)
+
+    def test_the_kinds_are_not_alike(self):
+        for n in (1, 2, 3):
+            told = kinds(n)
+            for one, other in itertools.permutations(told, 2):
+                self.assertIsNone(change_to(one, other))
+
+    def test_a_form_without_gaps_keeps_each_turn_of_one_switch(self):
+        for function in many_functions() + crowded_functions():
+            smooth = least_smooth(function)
+            self.assertIs(is_form(function, smooth), True, function)
+            self.assertEqual(gaps(function, smooth), [], function)
+            for step in steps(function):
+                self.assertTrue(any(set(step) <= POINTS[term] for term in smooth), (function, step))
+            for form in greedy_forms(function):
+                whole = tuple(sorted(form + mended(function, form)))
+                self.assertIs(is_smooth(function, whole), True, (function, form))
+                self.assertLessEqual(len(smooth), len(whole), (function, form))
 
 
 if __name__ == "__main__":
